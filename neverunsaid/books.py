@@ -1,0 +1,26 @@
+"""What lists of lines tell."""
+
+from neverunsaid.basics import is_list
+from neverunsaid.texts import is_line
+from neverunsaid.trees import is_beyond
+
+
+def are_lines(value):
+    """Whether any value is a list of lines."""
+    return is_list(value) and all([is_line(line) for line in value])
+
+
+def copy_of(lines):
+    """The tuple of the last line of each cell, cells ascending."""
+    last = {line[2]: line for line in lines}
+    return tuple([last[cell] for cell in sorted(last)])
+
+
+def key_of(line):
+    """The key of what is known to be a line."""
+    return line[:2]
+
+
+def keys_beyond(tree, row, u, v):
+    """The keys of the lines of a row that are of u's side of the road between u and v, in their order."""
+    return [key_of(line) for line in row if is_beyond(tree, u, v, line[0])]
