@@ -32,7 +32,7 @@ class Log:
         if len(lines) > 0:
             self.disk.put(_frames_of(lines))
             self.disk.sync()
-            self._lines.extend(list(lines))
+            self._lines.extend(lines)
 
 
 def _lines_in(texts):

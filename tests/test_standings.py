@@ -250,8 +250,8 @@ class Point71(unittest.TestCase):
 
     def test_any_value_is_judged_as_a_fault(self):
         tree = row_tree(3)
-        x, z = (0, 0, "bell", ""), (1, 1, "bell", "")
-        for rows in ([[x], [z, x], [x]], [[x], [x[:3] + ("!",)], []], [[], [], []], [[x], [z], [x, z]]):
+        x, z, w = (0, 0, "bell", ""), (1, 1, "bell", ""), (2, 0, "bell", "")
+        for rows in ([[x], [z, x], [x]], [[x], [x[:3] + ("!",)], []], [[], [], []], [[x], [z], [x, z]], [[x], [w, x], [x, w]]):
             faults = faults_by_words(tree, rows)
             for value in values_of_all_kinds():
                 self.assertIs(is_standing_fault(tree, rows, value), repr(value) in [repr(fault) for fault in faults])
@@ -271,7 +271,7 @@ class Point71(unittest.TestCase):
         self.assertIs(is_standing_fault(tree, rows, ("two", 1, 2, (0, 0), (2, 0))), True)
         for wrong in (("two", 1, 2, [0, 0], (2, 0)), ("two", 1, 2, (0, 0), [2, 0]), ("two", True, 2, (0, 0), (2, 0)),
                       ("two", 1, 2, (False, 0), (2, 0)), ("two", 1, 2, (0, 0), (2, False)), ("two", 1, 2, (0, 0, 0), (2, 0)),
-                      ("two", 1, 2, x, z), ["two", 1, 2, (0, 0), (2, 0)], ("two", 0, 2, (0, 0), (2, 0)), ("two", 1, 3, (0, 0), (2, 0))):
+                      ("two", 2, True, (2, 0), (0, 0)), ("two", 1, 2, x, z), ["two", 1, 2, (0, 0), (2, 0)], ("two", 0, 2, (0, 0), (2, 0)), ("two", 1, 3, (0, 0), (2, 0))):
             self.assertIs(is_standing_fault(tree, rows, wrong), False)
 
     def test_negative_indices_are_none(self):
