@@ -11,6 +11,11 @@ def is_count(value):
     return is_int(value) and value >= 0
 
 
+def is_life(value):
+    """Whether a value is an integer from 1 on."""
+    return is_int(value) and value >= 1
+
+
 def is_list(value):
     """Whether a value may stand where a list is expected."""
     return isinstance(value, (list, tuple))

@@ -4,7 +4,7 @@ Rows are passed to these functions only when they are known to be rows of the tr
 """
 
 from neverunsaid.basics import is_count
-from neverunsaid.books import key_of, keys_beyond
+from neverunsaid.books import is_key, key_of, keys_beyond
 from neverunsaid.trees import are_neighbours, is_beyond
 
 
@@ -12,7 +12,7 @@ def fault_in(tree, rows):
     """Any fault of the rows, or None if they have none."""
     fault = _own_fault(rows)
     if fault is None:
-        fault = _unlike_fault(rows)
+        fault = unlike_fault(rows)
     if fault is None:
         fault = _order_fault(tree, rows)
     if fault is None:
@@ -27,7 +27,7 @@ def is_fault(tree, rows, value):
     if value[0] == "own" and len(value) == 3:
         return _is_own(tree, rows, value[1], value[2])
     if value[0] == "unlike" and len(value) == 5:
-        return _is_unlike(tree, rows, (value[1], value[2]), (value[3], value[4]))
+        return is_unlike(tree, rows, (value[1], value[2]), (value[3], value[4]))
     if value[0] == "order" and len(value) == 4:
         return _is_order(tree, rows, value[1], value[2], value[3])
     if value[0] == "two" and len(value) == 5:
@@ -47,7 +47,7 @@ def _own_fault(rows):
     return None
 
 
-def _unlike_fault(rows):
+def unlike_fault(rows):
     """A fault of the form ("unlike", house, at, other, place), or None."""
     places = {}
     for other, row in enumerate(rows):
@@ -102,16 +102,16 @@ def _counts_ahead(tree, row, u, v):
 
 def _is_own(tree, rows, house, at):
     """Whether ("own", house, at) is a fault."""
-    if not _is_place(tree, rows, house, at):
+    if not is_place(tree, rows, house, at):
         return False
     home, number = key_of(rows[house][at])
     ahead = [line for line in rows[house][:at] if line[0] == house]
     return home == house and number != len(ahead)
 
 
-def _is_unlike(tree, rows, place, other):
+def is_unlike(tree, rows, place, other):
     """Whether two places, tuples of a house and an index, have one key and unlike lines."""
-    if not _is_place(tree, rows, place[0], place[1]) or not _is_place(tree, rows, other[0], other[1]):
+    if not is_place(tree, rows, place[0], place[1]) or not is_place(tree, rows, other[0], other[1]):
         return False
     first = rows[place[0]][place[1]]
     second = rows[other[0]][other[1]]
@@ -120,7 +120,7 @@ def _is_unlike(tree, rows, place, other):
 
 def _is_order(tree, rows, u, v, at):
     """Whether ("order", u, v, at) is a fault."""
-    if not _is_road(tree, u, v) or not _is_place(tree, rows, v, at):
+    if not _is_road(tree, u, v) or not is_place(tree, rows, v, at):
         return False
     line = rows[v][at]
     if not is_beyond(tree, u, v, line[0]):
@@ -132,7 +132,7 @@ def _is_order(tree, rows, u, v, at):
 def _is_two(tree, rows, road, a, b):
     """Whether ("two", u, v, a, b) is a fault."""
     u, v = road
-    if not _is_road(tree, u, v) or not _is_key(a) or not _is_key(b):
+    if not _is_road(tree, u, v) or not is_key(a) or not is_key(b):
         return False
     at_u = [key_of(line) for line in rows[u]]
     at_v = [key_of(line) for line in rows[v]]
@@ -143,7 +143,7 @@ def _is_two(tree, rows, road, a, b):
     return at_u.index(b) < at_u.index(a) and at_v.index(a) < at_v.index(b)
 
 
-def _is_place(tree, rows, house, at):
+def is_place(tree, rows, house, at):
     """Whether two values are a house and the index of a line in its row."""
     return house in tree and is_count(at) and at < len(rows[house])
 
@@ -151,8 +151,3 @@ def _is_place(tree, rows, house, at):
 def _is_road(tree, u, v):
     """Whether two values are neighbours."""
     return u in tree and v in tree and are_neighbours(tree, u, v)
-
-
-def _is_key(value):
-    """Whether a value has the form of a key."""
-    return isinstance(value, tuple) and len(value) == 2 and is_count(value[0]) and is_count(value[1])

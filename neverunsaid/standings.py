@@ -1,7 +1,7 @@
 """Standings: rows that the books of the plain store can be, and what leads to them."""
 
 from neverunsaid.basics import is_list
-from neverunsaid.books import are_lines, key_of
+from neverunsaid.books import is_row
 from neverunsaid.errors import Faulty, InvalidLater, InvalidRows
 from neverunsaid.faults import fault_in, is_fault
 from neverunsaid.plain import Plain
@@ -11,14 +11,7 @@ def is_rows(tree, value):
     """Whether any value has a list of lines of the tree for each house, no two of one list with one key."""
     if not is_list(value) or len(value) != tree.houses:
         return False
-    return all([_is_row(tree, row) for row in value])
-
-
-def _is_row(tree, value):
-    """Whether any value is a list of lines of the tree, no two of them with one key."""
-    if not are_lines(value) or not all([line[0] in tree for line in value]):
-        return False
-    return len({key_of(line) for line in value}) == len(value)
+    return all([is_row(tree, row) for row in value])
 
 
 def standing_fault(tree, rows):

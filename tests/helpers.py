@@ -8,6 +8,7 @@ from neverunsaid import errors
 from neverunsaid.disks import Disk
 from neverunsaid.logs import Log
 from neverunsaid.plain import Plain
+from neverunsaid.texts import is_line
 from neverunsaid.trees import Tree
 
 
@@ -34,6 +35,12 @@ def values_of_all_kinds():
     values += [[("hand", 0, 1, 1)], [("hold", 0, 1)], [()], [("hand",)], [(["make"], 0, "a", "")]]
     values += [("own", 0, 0), ("own", True, 0), ["own", 0, 0], ("unlike", 0, 0, 1, 0), ("order", 0, 1, 0), ("order", 0, 1, False)]
     values += [("two", 0, 1, (0, 0), (1, 0)), ("two", 0, 1, [0, 0], (1, 0)), ("two", 0, 1, (False, 0), (1, 0)), ("two",), ("own",)]
+    ring = ("ring", 0, ((0, 1), (1, 1)), ((1, 0), (0, 0)))
+    values += [ring, list(ring), ("ring", 0, [(0, 1), (1, 1)], ((1, 0), (0, 0))), ("ring", 0, (), ()), ("ring", 0, ((0, 1),), ((0, 0),))]
+    values += [("one", 0, (0, 1)), ("one", 0, [0, 1]), ("one", True, (0, 1)), ("two", 0, (0, 1), (1, 0), (0, 1)), ["own"], ("own", 0)]
+    values += [(1, 0, 1), (1, 2, 3), (0, 1, 1), (1, 1, 0), (True, 0, 1), (1, False, 1), (1, 0, True), [1, 0, 1], (1, 16, 1), (1, 0)]
+    values += [("halt", (1, 0, 1)), ("held", (1, 2, 3), 1, 2, ()), ("take", (1, 2, 3), 1, 0, (line,)), ("have", (1, 2, 3), 1, 0)]
+    values += [("halt", [1, 0, 1]), ("held", (1, 2, 3), 1, 2, []), ("take", (1, 2, 3), 0, 0, (line,)), ("halt",), ("halt", None)]
     values += [{"a": 1}, {"a": {"b": [1, (2, None)]}}, [[[[[[[[1]]]]]]]], ((((((((True,)))))),),), [{"own": (0, 0)}], ({}, [{}])]
     values += [tree, Disk(), Log(Disk()), Plain(tree), errors.NoStanding(), errors.InvalidLine(3), [tree], (tree, tree), ("make", tree)]
     return values
@@ -62,6 +69,15 @@ def assert_told(case, wanted, function, *args, **named):
     case.assertEqual(repr(vars(caught.exception)), repr(vars(wanted)))
 
 
+def assert_raised(case, wanted, function, *args):
+    """The function raises an error like the wanted one, or any error of the wanted class where only that is told."""
+    if isinstance(wanted, type) and vars(wanted).get("__init__"):
+        with case.assertRaises(wanted):
+            function(*args)
+    else:
+        assert_told(case, wanted() if isinstance(wanted, type) else wanted, function, *args)
+
+
 def snapshot(value):
     """A copy of a value in which changed lists, at any depth, are told from the value later on."""
     if isinstance(value, (list, tuple)):
@@ -84,10 +100,38 @@ def run_examples(case, text):
         if told is None:
             exec(source[4:], names)
         elif told.startswith("raises "):
-            assert_told(case, eval(told[7:], vars(errors)), eval, source[4:], names)
+            assert_raised(case, eval(told[7:], dict(vars(errors))), eval, source[4:], names)
         else:
             case.assertEqual(repr(eval(source[4:], names)), repr(eval(told)), source)
     case.assertGreater(count, 1)
+
+
+def rows_by_form(tree, value):
+    if type(value) not in (list, tuple) or len(value) != tree.houses:
+        return False
+    for row in value:
+        if type(row) not in (list, tuple) or not all(is_line(line) and line[0] < tree.houses for line in row):
+            return False
+        if len({line[:2] for line in row}) < len(row):
+            return False
+    return True
+
+
+def not_rows(tree):
+    return [value for value in values_of_all_kinds() if not rows_by_form(tree, value)]
+
+
+def not_houses(tree):
+    return [value for value in values_of_all_kinds() if not is_int(value) or not 0 <= value < tree.houses]
+
+
+def not_keys(logs):
+    """Values of all kinds, and keys near to those of the logs, that are keys of no line that some log has."""
+    keys = {line[:2] for log in logs for line in log}
+    values = values_of_all_kinds() + [(home, number) for home in range(5) for number in range(5)]
+    values += [list(key) for key in keys] + [key + ("a", "") for key in keys] + [(home, number + 10 ** 19) for home, number in keys]
+    values += [(bool(home), number) for home, number in keys if home < 2] + [(home, bool(number)) for home, number in keys if number < 2]
+    return [value for value in values if repr(value) not in [repr(key) for key in keys]]
 
 
 def all_trees(houses):

@@ -33,6 +33,15 @@ def attributes_of_own():
     return methods, assigned
 
 
+def wrong_in_plain(value, within=False):
+    """What is not plain in a value that stands at module level: a list, dict or tuple there has no list or dict within."""
+    if isinstance(value, (list, dict, tuple)):
+        items = list(value.items()) if isinstance(value, dict) else value
+        wrong = [value] if within and not isinstance(value, tuple) else []
+        return wrong + [found for item in items for found in wrong_in_plain(item, True)]
+    return [] if value is None or isinstance(value, (int, str)) else [value]
+
+
 def local_names(function):
     """The parameters of a function and all names that it assigns."""
     names = [parameter.arg for parameter in function.args.args]
@@ -87,7 +96,7 @@ class Form(unittest.TestCase):
             for node in tree.body[1:]:
                 self.assertIsInstance(node, (ast.ImportFrom, ast.FunctionDef, ast.ClassDef, ast.Assign))
                 if isinstance(node, ast.Assign):
-                    self.assertIsInstance(node.value, ast.Constant)
+                    self.assertFalse(wrong_in_plain(ast.literal_eval(node.value)), name)
                     bound.append(node.targets[0].id)
                 elif isinstance(node, ast.ImportFrom):
                     bound += [told.name for told in node.names]

@@ -5,11 +5,19 @@ import inspect
 import unittest
 
 from helpers import row_tree, snapshot, star_tree, values_of_all_kinds
+from neverunsaid.arrows import arrows, is_picture, logs_fit, picture
 from neverunsaid.disks import Disk
 from neverunsaid.frames import framed, frames_in
+from neverunsaid.held import held, is_why_held, keeps_all, standing_lacking, why_held
+from neverunsaid.letters import is_era, is_letter
 from neverunsaid.logs import Log
+from neverunsaid.mending import wait_of
 from neverunsaid.plain import Plain, is_script, run_plain
+from neverunsaid.plans import added, is_plan, plan
+from neverunsaid.roads import came_over, to_send
+from neverunsaid.slow import ahead_slow, held_slow, standings
 from neverunsaid.standings import goes_on, is_rows, is_standing, is_standing_fault, script_to, standing_fault
+from neverunsaid.sure import ahead, is_ahead, is_paper, standing_without, why_ahead
 from neverunsaid.texts import is_cell, is_line, is_text, key, line_text, read_line
 from neverunsaid.trees import Tree, neighbours, on_way, read_tree, side, way
 
@@ -20,6 +28,16 @@ FUNCTIONS = {
     "plain": {"is_script": "tree value", "run_plain": "tree script"},
     "standings": {"is_rows": "tree value", "standing_fault": "tree rows", "is_standing_fault": "tree rows value",
                   "is_standing": "tree value", "script_to": "tree rows", "goes_on": "tree rows later"},
+    "arrows": {"arrows": "tree logs house", "picture": "tree logs", "is_picture": "tree logs value", "logs_fit": "tree logs"},
+    "sure": {"ahead": "tree logs house", "is_ahead": "tree logs house x z", "why_ahead": "tree logs house x z",
+             "is_paper": "tree logs house x z value", "standing_without": "tree logs house x z"},
+    "held": {"held": "tree logs", "why_held": "tree logs house key", "is_why_held": "tree logs house key value",
+             "standing_lacking": "tree logs house key", "keeps_all": "tree logs"},
+    "plans": {"plan": "tree logs", "is_plan": "tree logs value", "added": "tree logs"},
+    "slow": {"standings": "tree logs", "held_slow": "tree logs", "ahead_slow": "tree logs house"},
+    "letters": {"is_era": "value", "is_letter": "tree value"},
+    "roads": {"came_over": "tree lines u v", "to_send": "tree lines u v count"},
+    "mending": {"wait_of": "tree house"},
 }
 CLASSES = {
     ("trees", "Tree"): {"__init__": "houses roads", "__len__": "", "__contains__": "value", "__eq__": "other", "line": ""},
@@ -74,6 +92,26 @@ class ByName(unittest.TestCase):
             (script_to, {"rows": [[X], [], []], "tree": tree}, [("make", 0, "bell", "rings")]),
             (goes_on, {"later": [[X], [], []], "rows": [[], [], []], "tree": tree}, True),
         ]
+        logs, paper = [[X], [X], [Z]], ("one", 1, (1, 1))
+        asked = {"z": (2, 0), "x": (0, 0), "house": 1, "logs": logs, "tree": tree}
+        turned = {"z": (0, 0), "x": (2, 0), "house": 1, "logs": logs, "tree": tree}
+        lacked = {"key": (2, 0), "house": 0, "logs": logs, "tree": tree}
+        calls += [
+            (arrows, {"house": 2, "logs": logs, "tree": tree}, [((2, 0), (0, 0), (2, 1))]), (picture, {"logs": logs, "tree": tree}, None),
+            (is_picture, {"value": None, "logs": logs, "tree": tree}, False), (logs_fit, {"logs": logs, "tree": tree}, True),
+            (ahead, {"house": 1, "logs": logs, "tree": tree}, [((0, 0), (2, 0))]), (is_ahead, asked, True), (why_ahead, asked, paper),
+            (is_paper, {"value": paper, **asked}, True), (standing_without, turned, [[X], [X], [Z]]),
+            (held, {"logs": logs, "tree": tree}, [[(0, 0)], [(0, 0)], [(2, 0)]]),
+            (why_held, {"key": (2, 0), "house": 2, "logs": logs, "tree": tree}, 2), (is_why_held, {"value": 2, **lacked}, False),
+            (standing_lacking, lacked, [[X], [X], [Z]]), (keeps_all, {"logs": logs, "tree": tree}, [0, 1, 2]),
+            (plan, {"logs": logs, "tree": tree}, [[X], [X], [Z]]), (is_plan, {"value": logs, "logs": logs, "tree": tree}, True),
+            (added, {"logs": logs, "tree": tree}, [[], [], []]), (standings, {"logs": [[], [], []], "tree": tree}, [((), (), ())]),
+            (held_slow, {"logs": logs, "tree": tree}, [[(0, 0)], [(0, 0)], [(2, 0)]]),
+            (ahead_slow, {"house": 1, "logs": logs, "tree": tree}, [((0, 0), (2, 0))]), (is_era, {"value": (1, 7, 2)}, True),
+            (is_letter, {"value": ("sure", (1, 2, 2)), "tree": tree}, True),
+            (came_over, {"v": 1, "u": 0, "lines": [X, Z], "tree": tree}, 1),
+            (to_send, {"count": 0, "v": 1, "u": 2, "lines": [X, Z], "tree": tree}, [Z]), (wait_of, {"house": 1, "tree": tree}, 14),
+        ]
         for function, named, wanted in calls:
             self.assertEqual(function(**named), wanted, function)
             self.assertEqual(function(*[named[name] for name in parameters(function)]), wanted, function)
@@ -98,10 +136,13 @@ class Values(unittest.TestCase):
         rows = {len(tree): [[] for _ in range(len(tree))] for tree in trees}
         for value in values_of_all_kinds():
             before = snapshot(value)
-            answers = [judge(value) for judge in (is_cell, is_text, is_line)]
+            answers = [judge(value) for judge in (is_cell, is_text, is_line, is_era)]
             for tree in trees:
-                answers += [judge(tree, value) for judge in (is_script, is_rows, is_standing)]
+                answers += [judge(tree, value) for judge in (is_script, is_rows, is_standing, is_letter)]
                 answers += [is_standing_fault(tree, rows[len(tree)], value), value in tree]
+                logs = [[X]] + [[] for _ in range(len(tree) - 1)]
+                answers += [is_picture(tree, logs, value), is_plan(tree, logs, value), is_why_held(tree, logs, 0, (0, 0), value)]
+                answers.append(is_paper(tree, logs, 0, (0, 0), (0, 0), value))
             self.assertLessEqual({type(answer) for answer in answers}, {bool})
             self.assertEqual(snapshot(value), before)
 
@@ -145,6 +186,12 @@ class Values(unittest.TestCase):
             call(tree, rows)
         goes_on(tree, rows, later)
         is_standing_fault(tree, rows, [later])
+        for call in (picture, logs_fit, held, keeps_all, plan, added, standings, held_slow):
+            call(tree, rows)
+        for call in (arrows, ahead, ahead_slow):
+            call(tree, rows, 2)
+        for call in (came_over, to_send):
+            call(tree, lines, 0, 1, *([0] if call is to_send else []))
         self.assertEqual(snapshot(arguments), before)
         self.assertEqual(tree, row_tree(3))
 

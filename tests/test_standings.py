@@ -6,13 +6,13 @@ import random
 import unittest
 
 from helpers import (
-    assert_invalid, assert_told, directed_roads, drawn_run, drawn_tree, is_int, naive_side, row_tree, run_examples,
-    spoiled, star_tree, values_of_all_kinds,
+    assert_invalid, assert_told, directed_roads, drawn_run, drawn_tree, is_int, naive_side, row_tree, rows_by_form,
+    run_examples, spoiled, star_tree, values_of_all_kinds,
 )
+from search import all_reached, lines_of
 from neverunsaid.errors import Faulty, InvalidLater, InvalidRows
 from neverunsaid.plain import is_script, run_plain
 from neverunsaid.standings import goes_on, is_rows, is_standing, is_standing_fault, script_to, standing_fault
-from neverunsaid.texts import is_line
 from neverunsaid.trees import Tree
 
 EXAMPLES = """
@@ -35,17 +35,6 @@ False
 >>> script_to(tree, [[x], [], [x]])
 raises Faulty(('order', 1, 2, 0))
 """
-
-
-def rows_by_form(tree, value):
-    if type(value) not in (list, tuple) or len(value) != tree.houses:
-        return False
-    for row in value:
-        if type(row) not in (list, tuple) or not all(is_line(line) and line[0] < tree.houses for line in row):
-            return False
-        if len({line[:2] for line in row}) < len(row):
-            return False
-    return True
 
 
 def faults_by_words(tree, rows):
@@ -86,41 +75,11 @@ def fault_forms(tree, rows):
     return forms + [("two",) + items for items in itertools.product(houses, houses, keys, keys)]
 
 
-def next_deeds(tree, sides, rows, lines):
-    """The standings one deed behind another one, by the words of point [5]; only the given lines are made."""
-    for house, row in enumerate(rows):
-        number = len([line for line in row if line[0] == house])
-        made = [line for line in lines if line[:2] == (house, number)]
-        for u in range(tree.houses):
-            if (u, house) in sides:
-                under_way = [line for line in rows[u] if line[0] in sides[(u, house)] and line not in row]
-                made += under_way[:1]
-        for line in made:
-            yield rows[:house] + (row + (line,),) + rows[house + 1:]
-
-
-def all_reached(tree, lines, start=None):
-    """All standings with these lines that the deeds of the plain store lead to."""
-    sides = {road: naive_side(tree, *road) for road in directed_roads(tree)}
-    start = start or ((),) * tree.houses
-    reached, fresh = {start}, [start]
-    while fresh:
-        for rows in next_deeds(tree, sides, fresh.pop(), lines):
-            if rows not in reached:
-                reached.add(rows)
-                fresh.append(rows)
-    return reached
-
-
 def all_rows(tree, lines):
     """All rows of some of these lines."""
     orders = [order for many in range(len(lines) + 1) for order in itertools.permutations(lines, many)
               if len({line[:2] for line in order}) == many]
     return itertools.product(orders, repeat=tree.houses)
-
-
-def lines_of(*keys):
-    return [(home, number, "bell", "") for home, number in keys]
 
 
 SMALL = [
