@@ -17,7 +17,12 @@ def are_lines_of(tree, value):
 
 def is_row(tree, value):
     """Whether any value is a list of lines of the tree, no two of them with one key."""
-    return are_lines_of(tree, value) and len({key_of(line) for line in value}) == len(value)
+    return are_lines_of(tree, value) and has_no_key_twice(value)
+
+
+def has_no_key_twice(lines):
+    """Whether no two of the lines have one key."""
+    return len({key_of(line) for line in lines}) == len(lines)
 
 
 def copy_of(lines):

@@ -10,8 +10,7 @@ class Log:
     """The log on a disk. It tells what it read when it was opened and what was put since."""
 
     def __init__(self, disk):
-        texts, _ = frames_in(disk.text)
-        lines = _lines_in(texts)
+        lines = lines_on(disk)
         disk.trim(len(_frames_of(lines)))
         self.disk = disk
         self._lines = lines
@@ -35,8 +34,9 @@ class Log:
             self._lines.extend(lines)
 
 
-def _lines_in(texts):
-    """The lines of the texts, up to the first one that is not the text of a line."""
+def lines_on(disk):
+    """The list of the lines that a log would have which is opened on a disk; the disk stays as it is."""
+    texts, _ = frames_in(disk.text)
     lines = []
     for text in texts:
         line = line_in(text)

@@ -92,15 +92,23 @@ def is_deed(tree, value):
 
 def is_script(tree, value):
     """Whether any value is a list of at most 2000 deeds, whether or not they can be done."""
-    if not is_list(value) or len(value) > MOST_DEEDS:
-        return False
-    return all([is_deed(tree, deed) for deed in value])
+    return are_deeds(tree, value) and len(value) <= MOST_DEEDS
+
+
+def are_deeds(tree, value):
+    """Whether any value is a list of deeds, however many."""
+    return is_list(value) and all([is_deed(tree, deed) for deed in value])
 
 
 def run_plain(tree, script):
     """The plain store behind the deeds of a script."""
     if not is_script(tree, script):
         raise InvalidScript(script)
+    return plain_behind(tree, script)
+
+
+def plain_behind(tree, script):
+    """The plain store behind deeds, however many."""
     plain = Plain(tree)
     for at, deed in enumerate(script):
         try:

@@ -5,11 +5,15 @@ import itertools
 import random
 
 from neverunsaid import errors
+from neverunsaid.desk import Desk
 from neverunsaid.disks import Disk
+from neverunsaid.houses import House
 from neverunsaid.logs import Log
 from neverunsaid.plain import Plain
+from neverunsaid.readers import Reader
 from neverunsaid.texts import is_line
 from neverunsaid.trees import Tree
+from neverunsaid.worlds import World
 
 
 def values_of_all_kinds():
@@ -41,8 +45,12 @@ def values_of_all_kinds():
     values += [(1, 0, 1), (1, 2, 3), (0, 1, 1), (1, 1, 0), (True, 0, 1), (1, False, 1), (1, 0, True), [1, 0, 1], (1, 16, 1), (1, 0)]
     values += [("halt", (1, 0, 1)), ("held", (1, 2, 3), 1, 2, ()), ("take", (1, 2, 3), 1, 0, (line,)), ("have", (1, 2, 3), 1, 0)]
     values += [("halt", [1, 0, 1]), ("held", (1, 2, 3), 1, 2, []), ("take", (1, 2, 3), 0, 0, (line,)), ("halt",), ("halt", None)]
+    values += [("tick", 0), ("write", 0, "bell", ""), ("stop", 0, 3), ("tick", True), ["tick", 0], ("tick",), [("tick", 0)], [("rise", 16)]]
+    values += [[("bell", "last")], [("bell", "most"), ("door", "sum")], [("bell", "Last")], [["bell", "last"]], ("bell", "last"), "tick 0 "]
+    values += [([[], [], []], []), [[[], [], []], []], ([[]], []), (([],), ()), ([[]], [("make", 0, "bell", "")])]
     values += [{"a": 1}, {"a": {"b": [1, (2, None)]}}, [[[[[[[[1]]]]]]]], ((((((((True,)))))),),), [{"own": (0, 0)}], ({}, [{}])]
-    values += [tree, Disk(), Log(Disk()), Plain(tree), errors.NoStanding(), errors.InvalidLine(3), [tree], (tree, tree), ("make", tree)]
+    values += [tree, Disk(), Log(Disk()), Plain(tree), errors.NoStanding(), errors.InvalidLine(3)]
+    values += [House(tree, 0, Disk(), 1), World(tree), Desk(tree), Reader(), [tree], (tree, tree), ("make", tree)]
     return values
 
 

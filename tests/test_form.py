@@ -17,7 +17,7 @@ BUILTINS = set("""len range enumerate zip min max sum abs sorted reversed int st
     repr any all divmod ValueError""".split())
 METHODS = set("""append clear copy count endswith extend find get index insert isalnum isalpha isdigit islower isspace isupper
     items join keys ljust lower lstrip partition pop remove replace reverse rfind rjust rpartition rsplit rstrip setdefault
-    split splitlines startswith strip update upper values zfill bit_length isascii isprintable""".split())
+    split splitlines startswith strip update upper values zfill bit_length isascii isprintable removeprefix""".split())
 DOUBLE = ["__init__", "__eq__", "__len__", "__contains__"]
 BARRED = set("""register mro elements open input law version_info with_traceback add_note attrgetter breakpoint builtins compile
     copyright credits delattr dir eval exec exit gc getattr globals hasattr help id importlib license locals methodcaller os quit
@@ -28,9 +28,21 @@ STATEMENTS = (ast.Assign, ast.AugAssign, ast.If, ast.While, ast.For, ast.Return,
 
 def attributes_of_own():
     """The names of methods, and of attributes that methods assign, of all classes of the package."""
-    methods = {node.name for _, owner in CLASSES for node in owner.body if isinstance(node, ast.FunctionDef)}
-    assigned = {node.attr for _, node in NODES if isinstance(node, ast.Attribute) and isinstance(node.ctx, ast.Store)}
+    methods = {method for _, owner in CLASSES for method in names_of(owner)[0]}
+    assigned = {word for _, owner in CLASSES for word in names_of(owner)[1]}
     return methods, assigned
+
+
+def names_of(owner):
+    """The names of the methods of a class, and of the attributes that they assign."""
+    methods = {node.name for node in owner.body if isinstance(node, ast.FunctionDef)}
+    assigned = {node.attr for node in ast.walk(owner) if isinstance(node, ast.Attribute) and isinstance(node.ctx, ast.Store)}
+    return methods, assigned
+
+
+def properties_of_own():
+    """The names of all properties of the package."""
+    return {node.name for _, node in FUNCTIONS if [decorator.id for decorator in node.decorator_list] == ["property"]}
 
 
 def wrong_in_plain(value, within=False):
@@ -123,11 +135,11 @@ class Form(unittest.TestCase):
             if isinstance(node, ast.Raise):
                 self.assertIsInstance(node.exc, ast.Call)
 
-    def test_sets_are_only_measured(self):
+    def test_sets_are_only_measured_or_sorted(self):
         for name, node in NODES:
             for child in ast.iter_child_nodes(node):
                 if isinstance(child, ast.SetComp):
-                    self.assertTrue(isinstance(node, ast.Call) and node.func.id == "len", name)
+                    self.assertTrue(isinstance(node, ast.Call) and node.func.id in ("len", "sorted"), name)
 
     def test_names(self):
         for name, node in NODES:
@@ -156,7 +168,10 @@ class Form(unittest.TestCase):
         methods, assigned = attributes_of_own()
         self.assertFalse(methods & METHODS)
         self.assertLessEqual(assigned & METHODS, {"count", "index", "find", "get", "join", "lower", "upper", "split", "strip", "copy"})
-        self.assertFalse(methods & assigned)
+        # A name may be a method of one class and an attribute of another one, but not so a property.
+        for name, owner in CLASSES:
+            self.assertFalse(names_of(owner)[0] & names_of(owner)[1], owner.name)
+        self.assertFalse(properties_of_own() & assigned)
         for name, node in NODES:
             if isinstance(node, ast.Call) and isinstance(node.func, ast.Attribute):
                 self.assertIn(node.func.attr, methods | METHODS, name)

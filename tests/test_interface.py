@@ -6,20 +6,28 @@ import unittest
 
 from helpers import row_tree, snapshot, star_tree, values_of_all_kinds
 from neverunsaid.arrows import arrows, is_picture, logs_fit, picture
+from neverunsaid.calm import bound, calm_round, is_settled, lacking, settle
+from neverunsaid.desk import Desk, act_line, read_act
 from neverunsaid.disks import Disk
+from neverunsaid.examiner import findings, rows_left
 from neverunsaid.frames import framed, frames_in
 from neverunsaid.held import held, is_why_held, keeps_all, standing_lacking, why_held
+from neverunsaid.houses import House
 from neverunsaid.letters import is_era, is_letter
 from neverunsaid.logs import Log
 from neverunsaid.mending import wait_of
 from neverunsaid.plain import Plain, is_script, run_plain
 from neverunsaid.plans import added, is_plan, plan
+from neverunsaid.readers import Reader
 from neverunsaid.roads import came_over, to_send
 from neverunsaid.slow import ahead_slow, held_slow, standings
 from neverunsaid.standings import goes_on, is_rows, is_standing, is_standing_fault, script_to, standing_fault
+from neverunsaid.story import explained, gone, is_explained, made
 from neverunsaid.sure import ahead, is_ahead, is_paper, standing_without, why_ahead
 from neverunsaid.texts import is_cell, is_line, is_text, key, line_text, read_line
 from neverunsaid.trees import Tree, neighbours, on_way, read_tree, side, way
+from neverunsaid.views import alike, is_kinds, parting, view, views
+from neverunsaid.worlds import World, is_acts, run
 
 FUNCTIONS = {
     "texts": {"is_cell": "value", "is_text": "value", "is_line": "value", "key": "line", "line_text": "line", "read_line": "text"},
@@ -38,6 +46,12 @@ FUNCTIONS = {
     "letters": {"is_era": "value", "is_letter": "tree value"},
     "roads": {"came_over": "tree lines u v", "to_send": "tree lines u v count"},
     "mending": {"wait_of": "tree house"},
+    "worlds": {"is_acts": "tree value", "run": "tree acts"},
+    "calm": {"calm_round": "world", "is_settled": "world", "settle": "world", "bound": "tree", "lacking": "world"},
+    "examiner": {"rows_left": "world", "findings": "world"},
+    "desk": {"act_line": "act", "read_act": "line"},
+    "views": {"is_kinds": "value", "view": "kinds lines cell", "views": "kinds lines", "alike": "tree rows cell", "parting": "tree rows cell"},
+    "story": {"explained": "world", "is_explained": "world value", "made": "world", "gone": "world"},
 }
 CLASSES = {
     ("trees", "Tree"): {"__init__": "houses roads", "__len__": "", "__contains__": "value", "__eq__": "other", "line": ""},
@@ -45,8 +59,14 @@ CLASSES = {
     ("logs", "Log"): {"__init__": "disk", "__len__": "", "put": "lines"},
     ("plain", "Plain"): {"__init__": "tree", "make": "house cell text", "hand": "u v", "row": "house", "shows": "house",
                          "under_way": "u v", "rows": ""},
+    ("houses", "House"): {"__init__": "tree number disk life", "write": "cell text", "shows": "", "tick": "", "take": "sender letter"},
+    ("worlds", "World"): {"__init__": "tree", "house": "h", "disk": "h", "tick": "h", "carry": "k", "drop": "k", "double": "k",
+                          "stop": "h keep", "cut": "h many", "rise": "h", "write": "h cell text"},
+    ("desk", "Desk"): {"__init__": "tree", "do": "line", "board": "h"},
+    ("readers", "Reader"): {"__init__": "", "follow": "lines", "forget": "at"},
 }
-PROPERTIES = {("disks", "Disk"): ["text", "synced"], ("logs", "Log"): ["lines"], ("plain", "Plain"): ["script"]}
+PROPERTIES = {("disks", "Disk"): ["text", "synced"], ("logs", "Log"): ["lines"], ("plain", "Plain"): ["script"],
+              ("worlds", "World"): ["letters", "acts"], ("readers", "Reader"): ["read"]}
 X, Z = (0, 0, "bell", "rings"), (2, 0, "door", "")
 
 
@@ -112,6 +132,16 @@ class ByName(unittest.TestCase):
             (came_over, {"v": 1, "u": 0, "lines": [X, Z], "tree": tree}, 1),
             (to_send, {"count": 0, "v": 1, "u": 2, "lines": [X, Z], "tree": tree}, [Z]), (wait_of, {"house": 1, "tree": tree}, 14),
         ]
+        world, kinds, whole = World(tree=tree), [("bell", "most")], [[X], [X], [X]]
+        calls += [
+            (is_acts, {"value": [("tick", 0)], "tree": tree}, True), (bound, {"tree": tree}, 38), (is_settled, {"world": world}, False),
+            (lacking, {"world": world}, 0), (calm_round, {"world": world}, None), (rows_left, {"world": world}, [[], [], []]),
+            (findings, {"world": world}, []), (act_line, {"act": ("stop", 1, 0)}, "stop 1 0"), (read_act, {"line": "tick 2"}, ("tick", 2)),
+            (is_kinds, {"value": kinds}, True), (view, {"cell": "bell", "lines": [X], "kinds": kinds}, "rings"),
+            (views, {"lines": [X], "kinds": kinds}, [("bell", "rings")]), (alike, {"cell": "bell", "rows": whole, "tree": tree}, True),
+            (parting, {"cell": "bell", "rows": whole, "tree": tree}, None), (explained, {"world": world}, ([[], [], []], [])),
+            (is_explained, {"value": ([[], [], []], []), "world": world}, True), (made, {"world": world}, []), (gone, {"world": world}, []),
+        ]
         for function, named, wanted in calls:
             self.assertEqual(function(**named), wanted, function)
             self.assertEqual(function(*[named[name] for name in parameters(function)]), wanted, function)
@@ -129,6 +159,27 @@ class ByName(unittest.TestCase):
         self.assertIsNone(log.put(lines=[X]))
         self.assertEqual(log.lines, (X,))
 
+    def test_methods_of_houses_and_worlds_by_the_names_of_the_interface(self):
+        house = House(life=4, disk=Disk(), number=0, tree=Tree(1, []))
+        self.assertEqual(house.take(letter=("elder", (7, 0, 2)), sender=0), [])
+        self.assertEqual((house.write(text="rings", cell="bell"), house.shows(), house.tick()), (X, (X,), []))
+        world = run(acts=[("stop", 1, 0)], tree=row_tree(3))
+        self.assertEqual([world.cut(many=0, h=1), world.rise(h=1), world.stop(keep=3, h=1), world.house(h=1)], [None] * 4)
+        self.assertEqual([world.tick(h=0) for _ in range(12)], [None] * 12)
+        self.assertEqual([world.double(k=0), world.drop(k=0), world.carry(k=0), world.disk(h=0).text], [None] * 3 + [""])
+        settle(world=world)
+        self.assertEqual(world.write(text="rings", cell="bell", h=0), X)
+        desk, reader = Desk(tree=Tree(1, [])), Reader()
+        self.assertEqual((desk.do(line="tick 0"), desk.board(h=0)), (None, []))
+        self.assertEqual((reader.follow(lines=[X, Z]), reader.forget(at=1), reader.read), ([X, Z], None, (X,)))
+
+    def test_attributes_are_set_when_the_object_is_created(self):
+        tree, disk = row_tree(3), Disk()
+        house, world, desk = House(tree, 1, disk, 4), World(tree), Desk(tree)
+        self.assertEqual((house.tree, house.number, house.life, house.book, house.stage), (tree, 1, 4, (), "risen"))
+        self.assertEqual((house.era, house.known, house.waited, world.tree, type(desk.world)), (None, 0, 0, tree, World))
+        self.assertIs(house.disk, disk)
+
 
 class Values(unittest.TestCase):
     def test_judges_raise_nothing_and_tell_a_bool(self):
@@ -136,9 +187,10 @@ class Values(unittest.TestCase):
         rows = {len(tree): [[] for _ in range(len(tree))] for tree in trees}
         for value in values_of_all_kinds():
             before = snapshot(value)
-            answers = [judge(value) for judge in (is_cell, is_text, is_line, is_era)]
+            answers = [judge(value) for judge in (is_cell, is_text, is_line, is_era, is_kinds)]
             for tree in trees:
-                answers += [judge(tree, value) for judge in (is_script, is_rows, is_standing, is_letter)]
+                answers += [judge(tree, value) for judge in (is_script, is_rows, is_standing, is_letter, is_acts)]
+                answers.append(is_explained(World(tree), value))
                 answers += [is_standing_fault(tree, rows[len(tree)], value), value in tree]
                 logs = [[X]] + [[] for _ in range(len(tree) - 1)]
                 answers += [is_picture(tree, logs, value), is_plan(tree, logs, value), is_why_held(tree, logs, 0, (0, 0), value)]
@@ -197,7 +249,8 @@ class Values(unittest.TestCase):
 
     def test_objects_of_different_classes_are_not_equal(self):
         disk = Disk()
-        objects = [row_tree(3), disk, Log(disk), Plain(row_tree(3)), 3, "3: 0-1 1-2", (3, ((0, 1), (1, 2)))]
+        objects = [row_tree(3), disk, Log(disk), Plain(row_tree(3)), House(row_tree(3), 0, Disk(), 1), World(row_tree(3)), Desk(row_tree(3))]
+        objects += [Reader(), 3, "3: 0-1 1-2", (3, ((0, 1), (1, 2)))]
         for at, one in enumerate(objects):
             for place, other in enumerate(objects):
                 if at != place:
