@@ -30,7 +30,7 @@ class Desk:
     def do(self, line):
         """Do the act of a line, and return what it returns."""
         act = _act_in(line)
-        if act is None or not is_act_of(self.world.tree, act):
+        if not is_act_of(self.world.tree, act):
             raise InvalidLine(line)
         return do_act(self.world, act)
 

@@ -17,13 +17,13 @@ def findings(world):
     torn = picture(world.tree, rows)
     if torn is not None:
         return [("torn", torn)]
-    books = books_that_stand(world)
+    books = _books_that_stand(world)
     behind = [("behind", house) for house in books if list(books[house]) != rows[house]]
     sure = held(world.tree, rows)
     return behind + [("beside", house, key) for house in books for key in _missing(books[house], sure[house])]
 
 
-def books_that_stand(world):
+def _books_that_stand(world):
     """The book of each house that stands, by its number, ascending."""
     houses = [world.house(house) for house in range(world.tree.houses)]
     return {house.number: house.book for house in houses if house is not None and house.stage == "standing"}

@@ -52,7 +52,7 @@ def _is_kind(value):
     """Whether any value is a tuple of a cell and a kind."""
     if not isinstance(value, tuple) or len(value) != 2:
         return False
-    return is_cell(value[0]) and isinstance(value[1], str) and value[1] in KINDS
+    return is_cell(value[0]) and value[1] in KINDS
 
 
 def _check_kinds(kinds, lines):

@@ -31,7 +31,7 @@ raises Down(0)
 """
 
 KINDS = {"tick": "n", "write": "nct", "carry": "n", "drop": "n", "double": "n", "stop": "nn", "cut": "nn", "rise": "n"}
-NUMBERS = [0, 1, 7, 10, 16, 99, 1234567890, 10 ** 19, 10 ** 20 - 1]
+NUMBERS = [0, 1, 7, 16] + [10 ** figures - 1 for figures in range(1, 21)] + [10 ** 19]
 TEXTS = ["", " ", "  ", "x", " x", "x ", "rings at five", "0", "a  b ", "~" * 40, " " * 40, "tick 2"]
 ACTS = [(word, n) for word in ("tick", "carry", "drop", "double", "rise") for n in NUMBERS]
 ACTS += [(word, n, m) for word in ("stop", "cut") for n in NUMBERS for m in NUMBERS]
